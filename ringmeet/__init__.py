@@ -1,0 +1,1 @@
+"""Ringmeet: walkers without names that meet, or never can."""

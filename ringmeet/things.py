@@ -1,0 +1,23 @@
+"""What several modules need in common: looks at things of any kind, and steps through doors."""
+
+
+def is_whole(thing):
+    """Tell whether a thing is a whole number; Python counts truths as ints, the document doesn't."""
+    return isinstance(thing, int) and not isinstance(thing, bool)
+
+
+def is_tuple_of(thing, many):
+    """Tell whether a thing is a tuple of so many things."""
+    return isinstance(thing, tuple) and len(thing) == many
+
+
+def stops(web, room, walk):
+    """Tell (room, door come in by) for each step of a walk, ending ahead of a door that isn't there."""
+    found = []
+    here = room
+    for door in walk:
+        if not 0 <= door < len(web[here]):
+            return tuple(found)
+        here, back = web[here][door]
+        found.append((here, back))
+    return tuple(found)

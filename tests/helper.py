@@ -1,0 +1,155 @@
+"""Webs to ask of, things of all kinds, and looks that several test files need."""
+
+import itertools
+
+
+def webs_with(counts):
+    """All tuples of rooms with so many doors each whose doors lead to one another, hanging together or not."""
+    doors = [(room, door) for room, many in enumerate(counts) for door in range(many)]
+    for pairs in pairings(doors):
+        leads = {}
+        for one, other in pairs:
+            leads[one] = other
+            leads[other] = one
+        yield tuple(tuple(leads[(room, door)] for door in range(many)) for room, many in enumerate(counts))
+
+
+def pairings(things):
+    if not things:
+        yield []
+        return
+    first, *rest = things
+    for k, other in enumerate(rest):
+        for pairs in pairings(rest[:k] + rest[k + 1:]):
+            yield [(first, other)] + pairs
+
+
+def hangs_together(rooms):
+    known = {0}
+    for _ in rooms:
+        known |= {there for room in known for there, back in rooms[room]}
+    return len(known) == len(rooms)
+
+
+def all_pairings(most_rooms, most_doors):
+    """All rooms with paired doors of at most so many rooms and doors together."""
+    for many in range(1, most_rooms + 1):
+        for counts in itertools.product(range(5), repeat=many):
+            if sum(counts) <= most_doors and sum(counts) % 2 == 0:
+                yield from webs_with(counts)
+
+
+def small_webs(most_rooms=4, most_doors=6):
+    return [rooms for rooms in all_pairings(most_rooms, most_doors) if hangs_together(rooms)]
+
+
+def circulant(many, leap):
+    """Rooms in a ring, with doors 2 and 3 that leap over some."""
+    return tuple((((room + 1) % many, 1), ((room - 1) % many, 0), ((room + leap) % many, 3), ((room - leap) % many, 2))
+                 for room in range(many))
+
+
+def cube():
+    return tuple(tuple((room ^ (1 << door), door) for door in range(3)) for room in range(8))
+
+
+def double_star():
+    """Two rooms with three doors to each of both a dead end, and one to one another: each end looks alike."""
+    ends = [((0, 0),), ((0, 1),), ((0, 2),), ((1, 0),), ((1, 1),), ((1, 2),)]
+    return (((2, 0), (3, 0), (4, 0), (1, 3)), ((5, 0), (6, 0), (7, 0), (0, 3))) + tuple(ends)
+
+
+def big_webs():
+    """Webs up to the bounds: eight rooms, four doors, loops, many doors between two rooms."""
+    return [
+        circulant(8, 3), circulant(8, 2), circulant(7, 3), circulant(5, 2), circulant(4, 2), cube(), double_star(),
+        (((0, 1), (0, 0), (0, 3), (0, 2)),),
+        (((0, 2), (0, 3), (0, 0), (0, 1)),),
+        (((1, 0), (1, 1), (1, 2), (1, 3)), ((0, 0), (0, 1), (0, 2), (0, 3))),
+        (((1, 3), (1, 2), (1, 1), (1, 0)), ((0, 3), (0, 2), (0, 1), (0, 0))),
+        (((1, 0), (0, 2), (0, 1)), ((0, 0), (2, 1)), ((2, 2), (1, 1), (2, 0))),
+    ]
+
+
+class Odd:
+    """An object of no kind that the program knows."""
+
+
+def nested(deep, wrap, core):
+    for _ in range(deep):
+        core = wrap(core)
+    return core
+
+
+def in_tuple(core):
+    return (core,)
+
+
+def in_pair(core):
+    return (core, core)
+
+
+def in_list(core):
+    return [core]
+
+
+def strange_things():
+    """Things of all kinds, none of which is anything that a looker takes (but for empty ones)."""
+    return [
+        None, True, False, 0, 1, -1, 2, 4000, 10 ** 400, -(10 ** 400), "", "0", "came", "leave", "room 0.1", b"", b"01",
+        [], [[]], [()], [0], [0, 1], {}, {0: 0}, {(): ()}, set(), {0}, {(0, 1)}, frozenset(), frozenset([0, 1]),
+        bytearray(b"ab"), range(3), object(), Odd(), Odd, int, len, iter([0]), (k for k in (0, 1)), Ellipsis,
+        NotImplemented, ValueError("x"), slice(0, 1),
+        (None,), (True,), (False,), ("",), ("0",), ("came",), (b"",), ([],), ({},), (set(),), (Odd(),), (Ellipsis,),
+        (None, None), (True, False), ("a", "b"), ([], []), ({}, {}), ((), []), ([], ()), (0, None), (None, 0), (0, "0"),
+        ((0, True),), ((True, 0),), (((0, None),),), (((None, 0),),), ((("0", "1"),),), (([0, 1],),),
+        (((0, 1), [0, 0]),), (((0, 1), None),), (((0, 1), 5),), (((0, 1), ()),),
+        nested(40, in_tuple, ()), nested(40, in_list, []), nested(40, in_tuple, 0), nested(40, in_tuple, None),
+        nested(20, in_pair, 0), nested(39, in_tuple, [[]]), nested(39, in_list, ()), nested(40, in_tuple, "x"),
+        nested(40, lambda core: {0: core}, {}), ((), nested(38, in_tuple, ())), (nested(39, in_tuple, ()), ()),
+        (0,) * 1000, ((),) * 1000, (((0, 0),),) * 9, tuple(range(50)),
+    ]
+
+
+def changed(thing, change):
+    """All things that are this one but for one thing within it (or itself), changed as told."""
+    yield from change(thing)
+    if isinstance(thing, tuple):
+        for k, part in enumerate(thing):
+            for other in changed(part, change):
+                yield thing[:k] + (other,) + thing[k + 1:]
+
+
+def other_kinds(thing):
+    """A thing of another kind that Python may take for the same, or that stands in its place."""
+    if isinstance(thing, tuple):
+        yield list(thing)
+        yield dict(enumerate(thing))
+        yield frozenset()
+    elif isinstance(thing, int):
+        if thing in (0, 1):
+            yield bool(thing)
+        yield str(thing)
+        yield [thing]
+        yield (thing,)
+    elif isinstance(thing, str):
+        yield thing.encode()
+        yield [thing]
+        yield (thing,)
+        yield Odd()
+    elif thing is None:
+        yield False
+        yield ""
+        yield ()
+    if thing is not None:
+        yield None
+    yield Odd()
+    yield nested(30, in_tuple, thing)
+    yield nested(30, in_list, thing)
+
+
+def is_told(value):
+    """Whether a value is made of tuples, whole numbers, texts, True, False and None alone."""
+    if type(value) is tuple:
+        return all(is_told(part) for part in value)
+    return value is None or type(value) in (int, str, bool)
