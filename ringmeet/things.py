@@ -6,9 +6,19 @@ def is_whole(thing):
     return isinstance(thing, int) and not isinstance(thing, bool)
 
 
+def is_below(thing, bound):
+    """Tell whether a thing is a whole number from 0 on, below the bound."""
+    return is_whole(thing) and 0 <= thing < bound
+
+
 def is_tuple_of(thing, many):
     """Tell whether a thing is a tuple of so many things."""
     return isinstance(thing, tuple) and len(thing) == many
+
+
+def is_rising(things):
+    """Tell whether each of some things that can be compared is less than the next one."""
+    return all([things[at] < things[at + 1] for at in range(len(things) - 1)])
 
 
 def stops(web, room, walk):

@@ -54,7 +54,7 @@ def cube():
 
 
 def double_star():
-    """Two rooms with three doors to each of both a dead end, and one to one another: each end looks alike."""
+    """Two rooms, each with three doors to dead ends and one to the other: what hangs on both looks alike."""
     ends = [((0, 0),), ((0, 1),), ((0, 2),), ((1, 0),), ((1, 1),), ((1, 2),)]
     return (((2, 0), (3, 0), (4, 0), (1, 3)), ((5, 0), (6, 0), (7, 0), (0, 3))) + tuple(ends)
 
@@ -71,8 +71,83 @@ def big_webs():
     ]
 
 
+def lifted(web, times, shifts):
+    """A web laid so many times over another: where a shift is told of a door, it leads that many layers on."""
+    many = len(web)
+    rooms = []
+    for layer in range(times):
+        for room, doors in enumerate(web):
+            leads = []
+            for door, (there, back) in enumerate(doors):
+                shift = shifts.get((room, door), 0) - shifts.get((there, back), 0)
+                leads.append((there + many * ((layer + shift) % times), back))
+            rooms.append(tuple(leads))
+    return tuple(rooms)
+
+
+def lifts():
+    """Webs laid over smaller ones: (the web, how many rooms the smaller one has)."""
+    bud = (((1, 0), (0, 2), (0, 1)), ((0, 0),))
+    star = (((1, 0), (2, 0), (2, 1)), ((0, 0),), ((0, 1), (0, 2)))
+    knot = (((0, 1), (0, 0), (0, 3), (0, 2)),)
+    return [
+        (lifted(bud, 4, {(0, 1): 1}), 2), (lifted(bud, 3, {(0, 1): 2}), 2), (lifted(star, 2, {(0, 1): 1}), 3),
+        (lifted(knot, 8, {(0, 0): 1, (0, 2): 3}), 1), (lifted(knot, 6, {(0, 0): 2, (0, 2): 3}), 1),
+        (lifted(bud, 1, {}), 2),
+    ]
+
+
+def signs_for(web):
+    """Signs all alike, one unlike the others (at each room), by turns, all unlike, great and below nought."""
+    many = len(web)
+    yield (0,) * many
+    for room in range(many):
+        yield tuple(7 if other == room else 3 for other in range(many))
+    yield tuple(room % 2 for room in range(many))
+    yield tuple(range(many))
+    yield tuple((10 ** 40) * (-1) ** room for room in range(many))
+
+
+def room_orders(web):
+    """Orders of a web's rooms: all of a small one, some of a big one."""
+    many = len(web)
+    if many <= 4:
+        yield from itertools.permutations(range(many))
+    else:
+        for leap in (1, many - 1):
+            for k in range(many):
+                yield tuple((leap * room + k) % many for room in range(many))
+        yield (1, 0) + tuple(range(2, many))
+        yield (2, 4, 1, 0, 3) + tuple(range(5, many))
+
+
+def by_order(order, things):
+    """Things told room by room, for the rooms numbered otherwise."""
+    return tuple(things[order.index(room)] for room in range(len(order)))
+
+
 class Odd:
     """An object of no kind that the program knows."""
+
+
+class Likes:
+    """An object that says of itself that it is like all things."""
+
+    def __eq__(self, other):
+        return True
+
+    def __hash__(self):
+        return 0
+
+
+class Touchy:
+    """An object that can't be compared with anything."""
+
+    def __eq__(self, other):
+        raise RuntimeError("compared")
+
+    __lt__ = __le__ = __gt__ = __ge__ = __ne__ = __eq__
+    __hash__ = None
 
 
 def nested(deep, wrap, core):
@@ -98,9 +173,10 @@ def strange_things():
     return [
         None, True, False, 0, 1, -1, 2, 4000, 10 ** 400, -(10 ** 400), "", "0", "came", "leave", "room 0.1", b"", b"01",
         [], [[]], [()], [0], [0, 1], {}, {0: 0}, {(): ()}, set(), {0}, {(0, 1)}, frozenset(), frozenset([0, 1]),
-        bytearray(b"ab"), range(3), object(), Odd(), Odd, int, len, iter([0]), (k for k in (0, 1)), Ellipsis,
-        NotImplemented, ValueError("x"), slice(0, 1),
-        (None,), (True,), (False,), ("",), ("0",), ("came",), (b"",), ([],), ({},), (set(),), (Odd(),), (Ellipsis,),
+        bytearray(b"ab"), range(3), object(), Odd(), Odd, Likes(), Touchy(), int, len, iter([0]), (k for k in (0, 1)),
+        Ellipsis, NotImplemented, ValueError("x"), slice(0, 1),
+        (None,), (True,), (False,), ("",), ("0",), ("came",), (b"",), ([],), ({},), (set(),), (Odd(),), (Likes(),),
+        (Touchy(),), (Ellipsis,),
         (None, None), (True, False), ("a", "b"), ([], []), ({}, {}), ((), []), ([], ()), (0, None), (None, 0), (0, "0"),
         ((0, True),), ((True, 0),), (((0, None),),), (((None, 0),),), ((("0", "1"),),), (([0, 1],),),
         (((0, 1), [0, 0]),), (((0, 1), None),), (((0, 1), 5),), (((0, 1), ()),),
@@ -126,6 +202,7 @@ def other_kinds(thing):
         yield list(thing)
         yield dict(enumerate(thing))
         yield frozenset()
+        yield Odd()
     elif isinstance(thing, int):
         if thing in (0, 1):
             yield bool(thing)
@@ -136,14 +213,14 @@ def other_kinds(thing):
         yield thing.encode()
         yield [thing]
         yield (thing,)
-        yield Odd()
     elif thing is None:
         yield False
         yield ""
         yield ()
     if thing is not None:
         yield None
-    yield Odd()
+    yield Likes()
+    yield Touchy()
     yield nested(30, in_tuple, thing)
     yield nested(30, in_list, thing)
 

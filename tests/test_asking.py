@@ -4,7 +4,12 @@ import copy
 import unittest
 
 from helper import big_webs, is_told, small_webs
+from ringmeet.colours import all_unlike, colouring, is_colouring, seen
+from ringmeet.machines import deed_of, is_machine, sights
 from ringmeet.naming import redoored, renamed
+from ringmeet.parting import parted, shows_parted
+from ringmeet.standings import all_signs, chalk_signs, is_standing, standings
+from ringmeet.turns import is_turn, turned, turns
 from ringmeet.walks import led, way_back, ways
 from ringmeet.webs import is_web, lane, ring
 
@@ -35,12 +40,55 @@ def web_questions(web):
     ]
 
 
+def look_questions(web):
+    """Each question of what looks alike in a web, with signs and a standing of its own."""
+    last = len(web) - 1
+    signs = tuple(room % 3 for room in range(len(web)))
+    standing = ((0,), (last,))
+    return [
+        lambda: seen(web, signs, last, (0, 0)),
+        lambda: colouring(web, signs),
+        lambda: is_colouring(web, signs, (0,) * len(web)),
+        lambda: is_colouring(web, signs, [0] * len(web)),
+        lambda: all_unlike(colouring(web, signs)),
+        lambda: parted(web, signs, 0, last),
+        lambda: shows_parted(web, signs, 0, last, (0, 1)),
+        lambda: shows_parted(web, signs, 0, last, [0, 1]),
+        lambda: turns(web),
+        lambda: is_turn(web, turns(web)[-1]),
+        lambda: is_turn(web, turned_rooms(web)),
+        lambda: turned(turns(web)[-1], (0, last)),
+        lambda: is_standing(web, standing),
+        lambda: is_standing(web, ((last, 0), [])),
+        lambda: chalk_signs(web, standing[1]),
+        lambda: all_signs(web, standing),
+        lambda: standings(web, (len(web) + 1) // 2),
+    ]
+
+
+def machine_questions(web):
+    """Each question of a machine that hangs on how many rooms a web has."""
+    eyes = ("chalk",) if len(web) % 2 else ("came", "doors")
+    machine = (eyes, tuple(((mood, sight), (len(web), "mark", None)) for mood in (0, 2) for sight in sights(eyes)))
+    return [
+        lambda: is_machine(machine),
+        lambda: is_machine((eyes, list(machine[1]))),
+        lambda: sights(eyes),
+        lambda: deed_of(machine, 2, sights(eyes)[-1]),
+        lambda: deed_of(machine, 1, sights(eyes)[0]),
+    ]
+
+
+def all_questions(web):
+    return web_questions(web) + look_questions(web) + machine_questions(web)
+
+
 def webs_to_ask():
     return small_webs(3, 4) + big_webs() + [ring(many) for many in (1, 2, 6)] + [lane(many) for many in (1, 2, 6)]
 
 
 class AskedAgain(unittest.TestCase):
-    questions = staticmethod(web_questions)
+    questions = staticmethod(all_questions)
 
     def test_two_webs_asked_by_turns(self):
         webs = webs_to_ask()
@@ -61,6 +109,18 @@ class AskedAgain(unittest.TestCase):
             for ask in self.questions(web):
                 ask()
             self.assertEqual(web, before)
+
+    def test_lists_that_are_handed_to_the_lookers_stay(self):
+        web, signs = ring(3), (0, 0, 0)
+        lookers = [
+            is_web, is_machine, lambda thing: is_colouring(web, signs, thing), lambda thing: is_turn(web, thing),
+            lambda thing: is_standing(web, thing), lambda thing: shows_parted(web, signs, 0, 1, thing),
+        ]
+        for things in ([2, 1, 0], [[[0, 1], [0, 0]]], ([2, 0], [1]), (([2, 1],), [0]), {2: [1], 0: [2]}):
+            before = copy.deepcopy(things)
+            for looker in lookers:
+                self.assertIs(looker(things), False)
+                self.assertEqual(things, before)
 
 
 if __name__ == "__main__":

@@ -1,7 +1,7 @@
 import itertools
 import unittest
 
-from helper import big_webs, is_told, small_webs
+from helper import big_webs, is_told, room_orders, small_webs
 from ringmeet.naming import redoored, renamed
 from ringmeet.webs import is_web, lane, ring
 
@@ -18,18 +18,6 @@ def door_orders(web):
     else:
         for k in range(5):
             yield tuple(orders[(k * (room + 3)) % len(orders)] for room, orders in enumerate(rooms))
-
-
-def room_orders(web):
-    many = len(web)
-    if many <= 4:
-        yield from itertools.permutations(range(many))
-    else:
-        for leap in (1, many - 1):
-            for k in range(many):
-                yield tuple((leap * room + k) % many for room in range(many))
-        yield (1, 0) + tuple(range(2, many))
-        yield (2, 4, 1, 0, 3) + tuple(range(5, many))
 
 
 class Renamed(unittest.TestCase):
