@@ -16,6 +16,11 @@ def is_tuple_of(thing, many):
     return isinstance(thing, tuple) and len(thing) == many
 
 
+def is_headed(thing, word, many):
+    """Tell whether a thing is a tuple of so many things, the first of them this text."""
+    return is_tuple_of(thing, many) and isinstance(thing[0], str) and thing[0] == word
+
+
 def is_rising(things):
     """Tell whether each of some things that can be compared is less than the next one."""
     return all([things[at] < things[at + 1] for at in range(len(things) - 1)])

@@ -2,6 +2,23 @@
 
 import itertools
 
+EYES = ("came", "chalk", "doors", "others")
+MANY = {"came": 5, "chalk": 2, "doors": 5, "others": 2}
+ALL_EYES = [eyes for many in range(5) for eyes in itertools.combinations(EYES, many)]
+HANDS = ("leave", "mark", "wipe")
+STEPS = (None, 0, 1, 2, 3)
+BLIND = (None, None, None, None)
+
+
+def sights_of(eyes):
+    return sorted(itertools.product(*[range(MANY[eye]) if eye in eyes else (None,) for eye in EYES]),
+                  key=lambda sight: tuple(-1 if part is None else part for part in sight))
+
+
+def sets_of(many):
+    """All rising tuples of rooms of a web of so many, none among them."""
+    return [rooms for k in range(many + 1) for rooms in itertools.combinations(range(many), k)]
+
 
 def webs_with(counts):
     """All tuples of rooms with so many doors each whose doors lead to one another, hanging together or not."""
@@ -230,3 +247,80 @@ def is_told(value):
     if type(value) is tuple:
         return all(is_told(part) for part in value)
     return value is None or type(value) in (int, str, bool)
+
+
+class Dice:
+    """Numbers that look drawn and are the same in each run."""
+
+    def __init__(self, seed):
+        self.state = seed * 2654435761 + 12345
+
+    def roll(self, many):
+        self.state = (self.state * 6364136223846793005 + 1442695040888963407) % 2 ** 64
+        return (self.state >> 33) % many
+
+    def pick(self, things):
+        return things[self.roll(len(things))]
+
+    def shuffled(self, things):
+        left = list(things)
+        return [left.pop(self.roll(len(left))) for _ in things]
+
+    def some(self, things, least=0):
+        """Some of the things, at least so many, in their order."""
+        many = least + self.roll(len(things) - least + 1)
+        places = sorted(self.shuffled(range(len(things)))[:many])
+        return tuple(things[place] for place in places)
+
+
+def drawn_web(dice, many):
+    """A web of so many rooms, of at most four doors each, loops and several doors to one room among them."""
+    doors = [0] * many
+    pairs = []
+    order = dice.shuffled(range(many))
+
+    def join(one, other):
+        pairs.append(((one, doors[one]), (other, doors[other] + (one == other))))
+        doors[one] += 1
+        doors[other] += 1
+
+    for k in range(1, many):
+        join(dice.pick([room for room in order[:k] if doors[room] < 4]), order[k])
+    for _ in range(dice.roll(2 * many + 1)):
+        free = [room for room in range(many) if doors[room] < 4]
+        one, other = (dice.pick(free), dice.pick(free)) if free else (0, 0)
+        if free and (one != other or doors[one] < 3):
+            join(one, other)
+    orders = [dice.shuffled(range(count)) for count in doors]
+    leads = {}
+    for (one, p), (other, q) in pairs:
+        leads[(one, orders[one][p])] = (other, orders[other][q])
+        leads[(other, orders[other][q])] = (one, orders[one][p])
+    return tuple(tuple(leads[(room, door)] for door in range(doors[room])) for room in range(many))
+
+
+def drawn_machine(dice, eyes, moods, hands=HANDS, steps=STEPS, lacking=8):
+    """A machine with drawn deeds, about one row of so many not being there."""
+    keys = [(mood, sight) for mood in range(moods) for sight in sights_of(eyes) if dice.roll(lacking)]
+    return eyes, tuple((key, (dice.roll(moods), dice.pick(hands), dice.pick(steps))) for key in keys)
+
+
+def drawn_standing(dice, web):
+    rooms = tuple(range(len(web)))
+    return dice.some(rooms, 1), dice.some(rooms)
+
+
+def named_otherwise(order, rooms):
+    """The rising tuple of some rooms, numbered otherwise."""
+    return tuple(sorted(order[room] for room in rooms))
+
+
+def standing_otherwise(order, standing):
+    return tuple(named_otherwise(order, rooms) for rooms in standing)
+
+
+def cover_webs():
+    """Webs with some two rooms that look alike: rings, knots, lifts and those of the big ones."""
+    rings = [tuple((((room + 1) % many, 1), ((room - 1) % many, 0)) for room in range(many)) for many in range(2, 9)]
+    return rings + [circulant(8, 3), circulant(7, 3), circulant(4, 2), cube(), double_star()] + [
+        web for web, few in lifts()[:-1]]

@@ -3,11 +3,15 @@
 import copy
 import unittest
 
-from helper import big_webs, is_told, small_webs
+from helper import ALL_EYES, Dice, big_webs, drawn_machine, is_told, small_webs
+from ringmeet.beats import beat, begun, is_met, sight_of
 from ringmeet.colours import all_unlike, colouring, is_colouring, seen
 from ringmeet.machines import deed_of, is_machine, sights
 from ringmeet.naming import redoored, renamed
+from ringmeet.nevers import never, shows_never
 from ringmeet.parting import parted, shows_parted
+from ringmeet.quiet import is_quiet, marking
+from ringmeet.runs import most_chalk, run, walked
 from ringmeet.standings import all_signs, chalk_signs, is_standing, standings
 from ringmeet.turns import is_turn, turned, turns
 from ringmeet.walks import led, way_back, ways
@@ -79,8 +83,34 @@ def machine_questions(web):
     ]
 
 
+def walk_questions(web):
+    """Each question of walkers in a web, with a machine and a standing of its own."""
+    many = len(web)
+    eyes = ALL_EYES[(5 * many + len(web[0])) % 16]
+    machine = drawn_machine(Dice(many), eyes, 2)
+    standing = (tuple(range(0, many, 2)), tuple(range(1, many, 3)))
+    whole = (tuple((room % many, 0, room % 3) for room in (5, 2, many)), standing[1])
+    zeros = (0,) * many
+    return [
+        lambda: begun(standing),
+        lambda: sight_of(web, eyes, whole, 2),
+        lambda: beat(web, machine, whole),
+        lambda: is_met(whole),
+        lambda: walked(web, machine, standing, 9),
+        lambda: run(web, machine, standing, 9),
+        lambda: most_chalk(web, machine, standing, 9),
+        lambda: is_quiet(machine, many),
+        lambda: marking(machine),
+        lambda: never(web, standing, False),
+        lambda: never(web, (standing[0], ()), True),
+        lambda: shows_never(web, standing, True, ("colours", zeros)),
+        lambda: shows_never(web, (standing[0], ()), True, ("alike", 0, 1, zeros)),
+        lambda: shows_never(web, standing, False, ["colours", zeros]),
+    ]
+
+
 def all_questions(web):
-    return web_questions(web) + look_questions(web) + machine_questions(web)
+    return web_questions(web) + look_questions(web) + machine_questions(web) + walk_questions(web)
 
 
 def webs_to_ask():
@@ -115,6 +145,9 @@ class AskedAgain(unittest.TestCase):
         lookers = [
             is_web, is_machine, lambda thing: is_colouring(web, signs, thing), lambda thing: is_turn(web, thing),
             lambda thing: is_standing(web, thing), lambda thing: shows_parted(web, signs, 0, 1, thing),
+            lambda thing: shows_never(web, ((0, 1), ()), True, thing),
+            lambda thing: shows_never(web, ((0, 1), ()), True, ("alike", 0, 1, thing)),
+            lambda thing: shows_never(web, ((0, 1), ()), True, ("colours", thing)),
         ]
         for things in ([2, 1, 0], [[[0, 1], [0, 0]]], ([2, 0], [1]), (([2, 1],), [0]), {2: [1], 0: [2]}):
             before = copy.deepcopy(things)

@@ -1,18 +1,9 @@
 import itertools
 import unittest
 
-from helper import changed, is_told, nested, in_tuple, other_kinds, strange_things
+from helper import (ALL_EYES, BLIND, EYES, MANY, changed, is_told, nested, in_tuple, other_kinds, sights_of,
+                    strange_things)
 from ringmeet.machines import deed_of, is_machine, sights
-
-EYES = ("came", "chalk", "doors", "others")
-MANY = {"came": 5, "chalk": 2, "doors": 5, "others": 2}
-ALL_EYES = [eyes for many in range(5) for eyes in itertools.combinations(EYES, many)]
-BLIND = (None, None, None, None)
-
-
-def sights_of(eyes):
-    return sorted(itertools.product(*[range(MANY[eye]) if eye in eyes else (None,) for eye in EYES]),
-                  key=lambda sight: tuple(-1 if part is None else part for part in sight))
 
 
 def full_machine(eyes, moods):

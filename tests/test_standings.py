@@ -1,15 +1,12 @@
 import itertools
 import unittest
 
-from helper import (big_webs, by_order, changed, is_told, lifts, other_kinds, room_orders, small_webs, strange_things)
+from helper import (big_webs, by_order, changed, is_told, lifts, other_kinds, room_orders, sets_of, small_webs,
+                    strange_things)
 from ringmeet.naming import renamed
 from ringmeet.standings import all_signs, chalk_signs, is_standing, standings
 from ringmeet.turns import turned, turns
 from ringmeet.webs import lane, ring
-
-
-def sets_of(many):
-    return [rooms for k in range(many + 1) for rooms in itertools.combinations(range(many), k)]
 
 
 class IsStanding(unittest.TestCase):
