@@ -29,11 +29,16 @@ def looks(web, signs, colours):
 
 def colouring(web, signs):
     """Tell the colouring by which all rooms are of one colour that are so by some colouring."""
+    return refined(web, signs, numbered)
+
+
+def refined(web, signs, numbering):
+    """Tell that colouring, its colours called as the numbering calls the rooms' looks."""
     colours = tuple([0 for room in web])
-    finer = numbered(looks(web, signs, colours))
+    finer = numbering(looks(web, signs, colours))
     while finer != colours:
         colours = finer
-        finer = numbered(looks(web, signs, colours))
+        finer = numbering(looks(web, signs, colours))
     return colours
 
 

@@ -114,6 +114,31 @@ def lifts():
     ]
 
 
+def mixed_lifts():
+    """Webs laid over ones of two rooms, so that not all rooms of one colour are turned to one another."""
+    def laid(base, times, orders):
+        leads = {}
+        for room, doors in enumerate(base):
+            for door, (there, back) in enumerate(doors):
+                order = orders.get((room, door))
+                for layer in range(times) if order or (there, back) not in orders else ():
+                    other = order[layer] if order else layer
+                    leads[(room + len(base) * layer, door)] = (there + len(base) * other, back)
+                    leads[(there + len(base) * other, back)] = (room + len(base) * layer, door)
+        return tuple(tuple(leads[(room + len(base) * layer, door)] for door in range(len(doors)))
+                     for layer in range(times) for room, doors in enumerate(base))
+
+    knot = (((1, 0), (1, 1), (0, 3), (0, 2)), ((0, 0), (0, 1)))
+    twin = (((1, 1), (1, 2), (1, 0)), ((0, 2), (0, 0), (0, 1)))
+    return [
+        laid(knot, 3, {(0, 1): (1, 0, 2), (0, 2): (0, 2, 1)}), laid(knot, 3, {(0, 1): (1, 2, 0), (0, 2): (0, 2, 1)}),
+        laid(knot, 4, {(0, 1): (1, 0, 3, 2), (0, 2): (0, 2, 1, 3)}),
+        laid(knot, 4, {(0, 1): (1, 2, 3, 0), (0, 2): (1, 0, 2, 3)}),
+        laid(knot, 4, {(0, 1): (1, 2, 0, 3), (0, 2): (0, 1, 3, 2)}),
+        laid(twin, 4, {(0, 1): (1, 2, 0, 3), (0, 2): (0, 1, 3, 2)}),
+    ]
+
+
 def signs_for(web):
     """Signs all alike, one unlike the others (at each room), by turns, all unlike, great and below nought."""
     many = len(web)
@@ -242,6 +267,15 @@ def other_kinds(thing):
     yield nested(30, in_list, thing)
 
 
+def is_same(one, other):
+    """Whether a thing of any kind is a plain value, kind for kind."""
+    if type(one) is not type(other):
+        return False
+    if isinstance(other, tuple):
+        return len(one) == len(other) and all(is_same(part, part_of) for part, part_of in zip(one, other))
+    return one == other
+
+
 def is_told(value):
     """Whether a value is made of tuples, whole numbers, texts, True, False and None alone."""
     if type(value) is tuple:
@@ -323,4 +357,16 @@ def cover_webs():
     """Webs with some two rooms that look alike: rings, knots, lifts and those of the big ones."""
     rings = [tuple((((room + 1) % many, 1), ((room - 1) % many, 0)) for room in range(many)) for many in range(2, 9)]
     return rings + [circulant(8, 3), circulant(7, 3), circulant(4, 2), cube(), double_star()] + [
-        web for web, few in lifts()[:-1]]
+        web for web, few in lifts()[:-1]] + mixed_lifts()
+
+
+def hard_fields():
+    """Fields, one walker in each room, whose rooms look unlike by few or no chalked rooms alone."""
+    webs = cover_webs() + big_webs()
+    lanes = [tuple(tuple([(room - 1, min(room - 1, 1))] * (room > 0) + [(room + 1, 0)] * (room < many - 1))
+                   for room in range(many)) for many in range(1, 9)]
+    fields = []
+    for web in webs + lanes:
+        every = tuple(range(len(web)))
+        fields += [(web, (every, chalk)) for chalk in ((), (0,), (1,), (0, 2), (0, 1, 3)) if set(chalk) <= set(every)]
+    return fields

@@ -5,15 +5,21 @@ import unittest
 
 from helper import ALL_EYES, Dice, big_webs, drawn_machine, is_told, small_webs
 from ringmeet.beats import beat, begun, is_met, sight_of
+from ringmeet.booklooks import shows_none
 from ringmeet.colours import all_unlike, colouring, is_colouring, seen
+from ringmeet.errands import deeds, does, fields_of, fits, is_errand
+from ringmeet.errors import Alike
+from ringmeet.gathering import gatherer
 from ringmeet.machines import deed_of, is_machine, sights
 from ringmeet.naming import redoored, renamed
 from ringmeet.nevers import never, shows_never
+from ringmeet.pairing import pairer
 from ringmeet.parting import parted, shows_parted
 from ringmeet.quiet import is_quiet, marking
 from ringmeet.runs import most_chalk, run, walked
 from ringmeet.standings import all_signs, chalk_signs, is_standing, standings
 from ringmeet.turns import is_turn, turned, turns
+from ringmeet.verdicts import verdict
 from ringmeet.walks import led, way_back, ways
 from ringmeet.webs import is_web, lane, ring
 
@@ -109,8 +115,43 @@ def walk_questions(web):
     ]
 
 
+def gathered_or_number(fields):
+    try:
+        return gatherer(fields)
+    except Alike as refusal:
+        return refusal.number
+
+
+def meeting_questions(web):
+    """Each question of machines that bring walkers of a web together, and of errands there."""
+    many = len(web)
+    rooms = tuple(range(0, many, 3))
+    fields = ((web, (rooms, (0,))), (web, ((many - 1,), ())))
+    errand = (fields, ("doors",), ("leave", "mark"), (None, 0), 1 + many % 3, many % 2, 3)
+    machine = drawn_machine(Dice(many), ("doors",), 2)
+    book = ("ask", 0, (None, None, len(web[0]), None), (("fails", 0),) * len(deeds(errand, 1)))
+    return [
+        lambda: gathered_or_number(fields),
+        lambda: gathered_or_number(fields[:1]),
+        lambda: pairer(web),
+        lambda: verdict(web, rooms, False),
+        lambda: verdict(web, rooms, True),
+        lambda: is_errand(errand),
+        lambda: is_errand(list(errand)),
+        lambda: fields_of(web, (many + 1) // 2, False),
+        lambda: fields_of(web, (many + 1) // 2, True),
+        lambda: fits(errand, machine),
+        lambda: does(errand, machine),
+        lambda: deeds(errand, 1),
+        lambda: shows_none(errand, book),
+        lambda: shows_none(errand, ("fails", 0)),
+        lambda: shows_none(errand, ["fails", 0]),
+    ]
+
+
 def all_questions(web):
-    return web_questions(web) + look_questions(web) + machine_questions(web) + walk_questions(web)
+    questions = web_questions(web) + look_questions(web) + machine_questions(web)
+    return questions + walk_questions(web) + meeting_questions(web)
 
 
 def webs_to_ask():
@@ -142,12 +183,14 @@ class AskedAgain(unittest.TestCase):
 
     def test_lists_that_are_handed_to_the_lookers_stay(self):
         web, signs = ring(3), (0, 0, 0)
+        errand = (((web, ((0, 1), ())),), (), ("mark",), (0,), 1, 0, 0)
         lookers = [
             is_web, is_machine, lambda thing: is_colouring(web, signs, thing), lambda thing: is_turn(web, thing),
             lambda thing: is_standing(web, thing), lambda thing: shows_parted(web, signs, 0, 1, thing),
             lambda thing: shows_never(web, ((0, 1), ()), True, thing),
             lambda thing: shows_never(web, ((0, 1), ()), True, ("alike", 0, 1, thing)),
-            lambda thing: shows_never(web, ((0, 1), ()), True, ("colours", thing)),
+            lambda thing: shows_never(web, ((0, 1), ()), True, ("colours", thing)), is_errand,
+            lambda thing: shows_none(errand, thing), lambda thing: shows_none(errand, ("ask", 0, (None,) * 4, thing)),
         ]
         for things in ([2, 1, 0], [[[0, 1], [0, 0]]], ([2, 0], [1]), (([2, 1],), [0]), {2: [1], 0: [2]}):
             before = copy.deepcopy(things)

@@ -1,0 +1,25 @@
+"""Trying: a field walked by the rows there are, and by no others."""
+
+from ringmeet.beats import begun, is_met, moved, wants
+
+
+def tried(field, eyes, rows, chalk, beats):
+    """Tell how a field goes by a dict of rows, with at most so many rooms chalked, in at most so many beats.
+
+    ("met", t): they meet behind t beats; ("fails", t): it is sure behind t beats that they don't as asked;
+    ("wants", key): the first row that is wanted and isn't there.
+    """
+    web, standing = field
+    whole = begun(standing)
+    passed = 0
+    while len(whole[1]) <= chalk and not is_met(whole) and passed < beats:
+        wanted = wants(web, eyes, whole)
+        lacking = [key for key in wanted if key not in rows]
+        if lacking:
+            return ("wants", lacking[0])
+        whole = moved(web, whole, [rows[key] for key in wanted])
+        passed += 1
+    # Too much chalk fails, even where they are met in that very whole.
+    if len(whole[1]) > chalk or not is_met(whole):
+        return ("fails", passed)
+    return ("met", passed)
