@@ -2,6 +2,11 @@
 
 import itertools
 
+from ringmeet.beats import beat, begun, is_met, sight_of
+from ringmeet.errands import deeds
+from ringmeet.nevers import never
+from ringmeet.webs import lane, ring
+
 EYES = ("came", "chalk", "doors", "others")
 MANY = {"came": 5, "chalk": 2, "doors": 5, "others": 2}
 ALL_EYES = [eyes for many in range(5) for eyes in itertools.combinations(EYES, many)]
@@ -370,3 +375,185 @@ def hard_fields():
         every = tuple(range(len(web)))
         fields += [(web, (every, chalk)) for chalk in ((), (0,), (1,), (0, 2), (0, 1, 3)) if set(chalk) <= set(every)]
     return fields
+
+
+def is_quiet_field(errand, j):
+    walkers = errand[0][j][1][0]
+    return errand[2] == ("leave",) and ("others" not in errand[1] or len(walkers) <= 2)
+
+
+def wanted_keys(web, eyes, whole):
+    return [(walker[2], sight_of(web, eyes, whole, k)) for k, walker in enumerate(whole[0])]
+
+
+class TooMany(Exception):
+    """A search that asks more rows than a test wants to wait for."""
+
+
+class Seeker:
+    """The search as the document tells it, each field walked from its beginning for each row; it counts the rows."""
+
+    def __init__(self, errand, most=5000):
+        self.errand = errand
+        self.most = most
+        self.asked = 0
+
+    def told(self):
+        """("does", machine) or ("none", book)."""
+        for j, (web, standing) in enumerate(self.errand[0]):
+            paper = never(web, standing, is_quiet_field(self.errand, j))
+            if paper:
+                return ("none", ("never", j, paper))
+        return self.way((), 1)
+
+    def way(self, rows, named):
+        fields, eyes, hands, steps, moods, chalk, beats = self.errand
+        there = dict(rows)
+        machine = (eyes, tuple(sorted(rows)))
+        for j, (web, standing) in enumerate(fields):
+            whole = begun(standing)
+            for t in range(beats + 1):
+                if len(whole[1]) > chalk or (t == beats and not is_met(whole)):
+                    return ("none", ("fails", j))
+                if is_met(whole):
+                    break
+                for key in wanted_keys(web, eyes, whole):
+                    if key not in there:
+                        return self.row(rows, named, key)
+                whole = beat(web, machine, whole)
+        return ("does", machine)
+
+    def row(self, rows, named, key):
+        self.asked += 1
+        if self.asked > self.most:
+            raise TooMany
+        books = []
+        for deed in deeds(self.errand, named):
+            told = self.way(rows + ((key, deed),), max(named, deed[0] + 1))
+            if told[0] == "does":
+                return told
+            books.append(told[1])
+        return ("none", ("ask",) + key + (tuple(books),))
+
+
+def search(errand):
+    return Seeker(errand).told()
+
+
+def fitting_machines(errand):
+    """All machines that fit and have a row for each mood and sight."""
+    fields, eyes, hands, steps, moods, chalk, beats = errand
+    keys = [(mood, sight) for mood in range(moods) for sight in sights_of(eyes)]
+    for some in itertools.product(list(itertools.product(range(moods), hands, steps)), repeat=len(keys)):
+        yield eyes, tuple(zip(keys, some))
+
+
+def how_many(errand):
+    many = len(errand[2]) * len(errand[3]) * errand[4]
+    return many ** (errand[4] * len(sights_of(errand[1])))
+
+
+LANE = (lane(3), ((0, 2), ()))
+NEAR = (lane(3), ((0, 1), ()))
+LONG = (lane(4), ((0, 3), ()))
+TURN = (ring(3), ((0, 1), ()))
+CHALK = (ring(3), ((0, 1), (1,)))
+ALONE = (ring(2), ((1,), (0,)))
+PAIR = (ring(2), ((0, 1), ()))
+THREE = (ring(3), ((0, 1, 2), (0,)))
+
+
+def small_errands():
+    """Errands of a few rows, done and not."""
+    return [
+        ((LANE,), (), ("leave",), (None, 0), 1, 0, 3),
+        ((LANE,), (), ("leave",), (None, 1), 2, 0, 3),
+        ((LANE,), ("doors",), ("leave",), (None, 1), 1, 0, 2),
+        ((NEAR,), (), ("leave",), (None, 0, 1), 2, 0, 3),
+        ((NEAR, LANE), (), ("leave", "mark"), (0,), 2, 1, 3),
+        ((LONG,), (), ("leave",), (0, 1), 2, 0, 4),
+        ((LONG,), ("doors",), ("leave",), (None, 0), 1, 0, 5),
+        ((LONG,), ("doors",), ("leave",), (None, 0), 2, 0, 3),
+        ((LONG, NEAR), (), ("leave",), (0, 1), 2, 0, 4),
+        ((TURN,), (), ("leave", "mark"), (None, 0), 1, 3, 3),
+        ((TURN,), ("chalk",), ("leave", "mark"), (None, 0), 1, 2, 3),
+        ((TURN,), ("chalk",), ("leave", "mark"), (0,), 2, 1, 3),
+        ((TURN,), ("chalk",), ("mark",), (None, 0), 2, 2, 3),
+        ((TURN,), ("chalk",), ("mark",), (None, 0), 1, 3, 4),
+        ((TURN,), ("chalk",), ("leave",), (None, 0), 1, 2, 3),
+        ((TURN,), ("others",), ("mark", "wipe"), (None, 0), 1, 1, 3),
+        ((CHALK,), ("chalk",), ("leave",), (0, 1), 1, 1, 2),
+        ((CHALK,), ("chalk",), ("leave", "wipe"), (0, 1), 1, 1, 2),
+        ((CHALK,), ("chalk",), ("leave",), (None, 0), 1, 1, 2),
+        ((CHALK,), ("chalk",), ("leave",), (None, 0), 1, 0, 2),
+        ((CHALK, TURN), ("chalk",), ("leave", "wipe"), (None, 0), 1, 2, 2),
+        ((ALONE,), (), ("leave",), (None,), 1, 0, 3),
+        ((ALONE,), (), ("leave",), (None,), 1, 1, 0),
+        ((ALONE, PAIR), (), ("leave", "mark", "wipe"), STEPS, 3, 8, 40),
+        ((ALONE, NEAR), (), ("leave",), (0,), 3, 1, 3),
+        ((THREE,), (), ("leave",), (None, 0), 1, 8, 2),
+        ((THREE,), ("chalk",), ("leave",), (None, 0), 1, 1, 2),
+        ((THREE,), ("chalk",), ("leave",), (None, 0), 1, 1, 1),
+        ((NEAR,), (), ("leave",), (0,), 3, 0, 0),
+    ]
+
+
+def drawn_field(dice):
+    """A field of a small web, of two or three walkers, seldom one of which never tells a paper."""
+    while True:
+        web = dice.pick([lane(2), lane(3), lane(4), ring(2), ring(3), ring(4), drawn_web(dice, 2 + dice.roll(3))])
+        rooms = tuple(sorted(dice.shuffled(range(len(web)))[:2 + dice.roll(2)]))
+        chalk = dice.some(range(len(web))) if dice.roll(3) == 0 else ()
+        if never(web, (rooms, chalk), False) is None or dice.roll(12) == 0:
+            return web, (rooms, chalk)
+
+
+def drawn_errand(dice):
+    """An errand of one to three such fields, not always one that can be done."""
+    fields = tuple(drawn_field(dice) for _ in range(1 + dice.roll(3)))
+    hands = dice.pick([("leave",), ("leave", "mark"), ("mark",), ("mark", "wipe"), HANDS])
+    steps = dice.pick([(0,), (None, 0), (0, 1), (None, 0, 1), (None, 1), STEPS])
+    return fields, dice.pick(ALL_EYES), hands, steps, 1 + dice.roll(3), dice.roll(5), dice.pick((1, 2, 3, 4, 7))
+
+
+def sight_by_words(web, eyes, whole, k):
+    """The sight, asked part by part, as the document tells it."""
+    room = whole[0][k][0]
+    alone = all(n == k or walker[0] != room for n, walker in enumerate(whole[0]))
+    full = {"came": whole[0][k][1], "chalk": int(room in whole[1]), "doors": len(web[room]), "others": int(not alone)}
+    return tuple(full[eye] if eye in eyes else None for eye in EYES)
+
+
+def beat_by_words(web, machine, whole, choice=None):
+    """The whole behind a beat (of the choice's walkers alone), walker by walker and room by room, as it is told."""
+    rows = dict(machine[1])
+    done = []
+    for k, (room, came, mood) in enumerate(whole[0]):
+        rest = (mood, "leave", None)
+        awake = choice is None or k in choice
+        done.append(rows.get((mood, sight_by_words(web, machine[0], whole, k)), rest) if awake else rest)
+    chalk = []
+    for room in range(len(web)):
+        hands = {deed[1] for deed, walker in zip(done, whole[0]) if walker[0] == room}
+        if "mark" in hands or (room in whole[1] and "wipe" not in hands):
+            chalk.append(room)
+    walkers = []
+    for (room, came, old), (mood, hand, step) in zip(whole[0], done):
+        if step in range(len(web[room])) and step is not None:
+            room, back = web[room][step]
+            came = back + 1
+        walkers.append((room, came, mood))
+    return tuple(walkers), tuple(chalk)
+
+
+def drawn_whole(dice, web, many, moods):
+    walkers = []
+    for _ in range(many):
+        room = dice.roll(len(web))
+        walkers.append((room, dice.roll(len(web[room]) + 1), dice.roll(moods)))
+    return tuple(walkers), dice.some(tuple(range(len(web))))
+
+
+def whole_otherwise(order, whole):
+    return (tuple((order[room], came, mood) for room, came, mood in whole[0]),
+            tuple(sorted(order[room] for room in whole[1])))

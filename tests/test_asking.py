@@ -9,6 +9,7 @@ from ringmeet.booklooks import shows_none
 from ringmeet.colours import all_unlike, colouring, is_colouring, seen
 from ringmeet.errands import deeds, does, fields_of, fits, is_errand
 from ringmeet.errors import Alike
+from ringmeet.fewest import fewest, least_chalk, shows_fewest, shows_least_chalk
 from ringmeet.gathering import gatherer
 from ringmeet.machines import deed_of, is_machine, sights
 from ringmeet.naming import redoored, renamed
@@ -17,6 +18,9 @@ from ringmeet.pairing import pairer
 from ringmeet.parting import parted, shows_parted
 from ringmeet.quiet import is_quiet, marking
 from ringmeet.runs import most_chalk, run, walked
+from ringmeet.seeking import sought
+from ringmeet.slow import slow
+from ringmeet.slowbeats import slow_beat, slow_walked
 from ringmeet.standings import all_signs, chalk_signs, is_standing, standings
 from ringmeet.turns import is_turn, turned, turns
 from ringmeet.verdicts import verdict
@@ -149,9 +153,42 @@ def meeting_questions(web):
     ]
 
 
+def book_questions(web):
+    """Each question of machines that are sought for an errand in a web."""
+    many = len(web)
+    fields = ((web, ((0, many - 1) if many > 1 else (0,), (0,))), (web, ((many // 2,), ())))
+    errand = (fields, ("chalk",), ("leave", "mark"), (None, 0), 1 + many % 2, 1 + many % 3, 3)
+    machine = (("chalk",), (((0, (None, 0, None, None)), (0, "leave", 0)),))
+    return [
+        lambda: sought(errand, 30),
+        lambda: sought(errand, 2),
+        lambda: fewest(errand, 30),
+        lambda: least_chalk(errand, 30),
+        lambda: shows_fewest(errand, fewest(errand, 30)),
+        lambda: shows_fewest(errand, ("does", 1, machine, ())),
+        lambda: shows_least_chalk(errand, least_chalk(errand, 30)),
+        lambda: shows_least_chalk(errand, ("does", 1, machine, (("fails", 0),))),
+    ]
+
+
+def slow_questions(web):
+    """Each question of slow walkers in a web."""
+    many = len(web)
+    machine = drawn_machine(Dice(many), ("doors",), 1)
+    standing = ((0, many - 1) if many > 1 else (0,), (many // 2,))
+    whole = (((0, 0, 0), (many // 2, 0, 0), (many - 1, 0, 0)), standing[1])
+    choices = (tuple(range(len(standing[0]))), (0,))
+    return [
+        lambda: slow_beat(web, machine, whole, (0, 2)),
+        lambda: slow_walked(web, machine, standing, choices * 3),
+        lambda: slow(web, machine, standing, 40),
+        lambda: slow(web, machine, standing, 0),
+    ]
+
+
 def all_questions(web):
-    questions = web_questions(web) + look_questions(web) + machine_questions(web)
-    return questions + walk_questions(web) + meeting_questions(web)
+    questions = web_questions(web) + look_questions(web) + machine_questions(web) + walk_questions(web)
+    return questions + meeting_questions(web) + book_questions(web) + slow_questions(web)
 
 
 def webs_to_ask():
@@ -191,6 +228,10 @@ class AskedAgain(unittest.TestCase):
             lambda thing: shows_never(web, ((0, 1), ()), True, ("alike", 0, 1, thing)),
             lambda thing: shows_never(web, ((0, 1), ()), True, ("colours", thing)), is_errand,
             lambda thing: shows_none(errand, thing), lambda thing: shows_none(errand, ("ask", 0, (None,) * 4, thing)),
+            lambda thing: shows_fewest(errand, thing), lambda thing: shows_fewest(errand, ("does", 1, thing, ())),
+            lambda thing: shows_fewest(errand, ("does", 1, ((), ()), thing)),
+            lambda thing: shows_least_chalk(errand, thing),
+            lambda thing: shows_least_chalk(errand, ("does", 0, ((), thing), ())),
         ]
         for things in ([2, 1, 0], [[[0, 1], [0, 0]]], ([2, 0], [1]), (([2, 1],), [0]), {2: [1], 0: [2]}):
             before = copy.deepcopy(things)

@@ -1,8 +1,8 @@
 import itertools
 import unittest
 
-from helper import (ALL_EYES, BLIND, EYES, Dice, big_webs, drawn_machine, drawn_standing, drawn_web, is_told,
-                    room_orders, sets_of, sights_of, small_webs)
+from helper import (ALL_EYES, BLIND, EYES, Dice, beat_by_words, big_webs, drawn_machine, drawn_standing, drawn_web,
+                    drawn_whole, is_told, room_orders, sets_of, sight_by_words, sights_of, small_webs, whole_otherwise)
 from ringmeet.beats import beat, begun, is_met, sight_of
 from ringmeet.naming import renamed
 from ringmeet.webs import lane, ring
@@ -18,47 +18,6 @@ def whole_of(*walkers, chalk=()):
 def blind(*deeds):
     """A machine that sees nothing, with a deed for each mood."""
     return (), tuple(((mood, BLIND), deed) for mood, deed in enumerate(deeds))
-
-
-def slow_sight(web, eyes, whole, k):
-    """The sight, asked part by part, as the document tells it."""
-    room = whole[0][k][0]
-    alone = all(n == k or walker[0] != room for n, walker in enumerate(whole[0]))
-    full = {"came": whole[0][k][1], "chalk": int(room in whole[1]), "doors": len(web[room]), "others": int(not alone)}
-    return tuple(full[eye] if eye in eyes else None for eye in EYES)
-
-
-def slow_beat_of(web, machine, whole):
-    """The whole behind a beat, walker by walker and room by room, as the document tells it."""
-    rows = dict(machine[1])
-    deeds = []
-    for k, (room, came, mood) in enumerate(whole[0]):
-        deeds.append(rows.get((mood, slow_sight(web, machine[0], whole, k)), (mood, "leave", None)))
-    chalk = []
-    for room in range(len(web)):
-        hands = {deed[1] for deed, walker in zip(deeds, whole[0]) if walker[0] == room}
-        if "mark" in hands or (room in whole[1] and "wipe" not in hands):
-            chalk.append(room)
-    walkers = []
-    for (room, came, old), (mood, hand, step) in zip(whole[0], deeds):
-        if step in range(len(web[room])) and step is not None:
-            room, back = web[room][step]
-            came = back + 1
-        walkers.append((room, came, mood))
-    return tuple(walkers), tuple(chalk)
-
-
-def drawn_whole(dice, web, many, moods):
-    walkers = []
-    for _ in range(many):
-        room = dice.roll(len(web))
-        walkers.append((room, dice.roll(len(web[room]) + 1), dice.roll(moods)))
-    return tuple(walkers), dice.some(tuple(range(len(web))))
-
-
-def whole_otherwise(order, whole):
-    return (tuple((order[room], came, mood) for room, came, mood in whole[0]),
-            tuple(sorted(order[room] for room in whole[1])))
 
 
 class Begun(unittest.TestCase):
@@ -96,7 +55,7 @@ class SightOf(unittest.TestCase):
                     whole = drawn_whole(dice, web, many, 9)
                     for k in range(many):
                         told = sight_of(web, eyes, whole, k)
-                        self.assertEqual(told, slow_sight(web, eyes, whole, k))
+                        self.assertEqual(told, sight_by_words(web, eyes, whole, k))
                         self.assertIn(told, sights_of(eyes))
                         self.assertTrue(is_told(told))
                         self.assertEqual([part is None for part in told], [eye not in eyes for eye in EYES])
@@ -232,7 +191,7 @@ class AtOnce(unittest.TestCase):
                 whole = drawn_whole(dice, web, 1 + dice.roll(8), 4)
                 for _ in range(6):
                     behind = beat(web, machine, whole)
-                    self.assertEqual(behind, slow_beat_of(web, machine, whole))
+                    self.assertEqual(behind, beat_by_words(web, machine, whole))
                     self.assertTrue(is_told(behind))
                     whole = behind
 
@@ -252,7 +211,7 @@ class AtOnce(unittest.TestCase):
             machine = drawn_machine(dice, EYES, 2)
             whole = begun(drawn_standing(dice, web))
             for _ in range(10):
-                self.assertEqual(beat(web, machine, whole), slow_beat_of(web, machine, whole))
+                self.assertEqual(beat(web, machine, whole), beat_by_words(web, machine, whole))
                 whole = beat(web, machine, whole)
 
 

@@ -1,9 +1,9 @@
-import itertools
 import unittest
 
-from helper import (ALL_EYES, BLIND, EYES, HANDS, STEPS, Likes, Touchy, changed, in_list, in_pair, in_tuple, is_same,
-                    nested, other_kinds, sights_of, strange_things)
-from ringmeet.beats import beat, begun, is_met, sight_of
+from helper import (ALL_EYES, BLIND, EYES, HANDS, LANE, LONG, NEAR, PAIR, STEPS, TURN, Likes, Touchy, changed,
+                    fitting_machines, how_many, in_list, in_pair, in_tuple, is_quiet_field, is_same, nested,
+                    other_kinds, search, sights_of, small_errands, strange_things, wanted_keys)
+from ringmeet.beats import is_met
 from ringmeet.booklooks import shows_none
 from ringmeet.errands import deeds, does, fits, is_errand
 from ringmeet.nevers import never, shows_never
@@ -12,49 +12,6 @@ from ringmeet.webs import lane, ring
 
 WHITE, CHALKED = (None, 0, None, None), (None, 1, None, None)
 ONE, TWO = (None, None, 1, None), (None, None, 2, None)
-
-
-def is_quiet_field(errand, j):
-    walkers = errand[0][j][1][0]
-    return errand[2] == ("leave",) and ("others" not in errand[1] or len(walkers) <= 2)
-
-
-def wanted_keys(web, eyes, whole):
-    return [(walker[2], sight_of(web, eyes, whole, k)) for k, walker in enumerate(whole[0])]
-
-
-def search(errand, rows=(), named=1):
-    """("does", machine) or ("none", book), by asking each row that is wanted, field by field."""
-    fields, eyes, hands, steps, moods, chalk, beats = errand
-    if not rows:
-        for j, (web, standing) in enumerate(fields):
-            paper = never(web, standing, is_quiet_field(errand, j))
-            if paper:
-                return ("none", ("never", j, paper))
-    there = dict(rows)
-    machine = (eyes, tuple(sorted(rows)))
-    for j, (web, standing) in enumerate(fields):
-        whole = begun(standing)
-        for t in range(beats + 1):
-            if len(whole[1]) > chalk or (t == beats and not is_met(whole)):
-                return ("none", ("fails", j))
-            if is_met(whole):
-                break
-            for key in wanted_keys(web, eyes, whole):
-                if key not in there:
-                    return search_deeds(errand, rows, named, key)
-            whole = beat(web, machine, whole)
-    return ("does", machine)
-
-
-def search_deeds(errand, rows, named, key):
-    books = []
-    for deed in deeds(errand, named):
-        told = search(errand, rows + ((key, deed),), max(named, deed[0] + 1))
-        if told[0] == "does":
-            return told
-        books.append(told[1])
-    return ("none", ("ask",) + key + (tuple(books),))
 
 
 def slow_look(errand, thing, rows=(), named=1):
@@ -90,64 +47,6 @@ def slow_fails(errand, field, rows):
         if ends and asked and not any(is_met(one) for one in ahead):
             return True
     return False
-
-
-def fitting_machines(errand):
-    """All machines that fit and have a row for each mood and sight."""
-    fields, eyes, hands, steps, moods, chalk, beats = errand
-    keys = [(mood, sight) for mood in range(moods) for sight in sights_of(eyes)]
-    for some in itertools.product(list(itertools.product(range(moods), hands, steps)), repeat=len(keys)):
-        yield eyes, tuple(zip(keys, some))
-
-
-def how_many(errand):
-    many = len(errand[2]) * len(errand[3]) * errand[4]
-    return many ** (errand[4] * len(sights_of(errand[1])))
-
-
-LANE = (lane(3), ((0, 2), ()))
-NEAR = (lane(3), ((0, 1), ()))
-LONG = (lane(4), ((0, 3), ()))
-TURN = (ring(3), ((0, 1), ()))
-CHALK = (ring(3), ((0, 1), (1,)))
-ALONE = (ring(2), ((1,), (0,)))
-PAIR = (ring(2), ((0, 1), ()))
-THREE = (ring(3), ((0, 1, 2), (0,)))
-
-
-def small_errands():
-    """Errands of a few rows, done and not."""
-    return [
-        ((LANE,), (), ("leave",), (None, 0), 1, 0, 3),
-        ((LANE,), (), ("leave",), (None, 1), 2, 0, 3),
-        ((LANE,), ("doors",), ("leave",), (None, 1), 1, 0, 2),
-        ((NEAR,), (), ("leave",), (None, 0, 1), 2, 0, 3),
-        ((NEAR, LANE), (), ("leave", "mark"), (0,), 2, 1, 3),
-        ((LONG,), (), ("leave",), (0, 1), 2, 0, 4),
-        ((LONG,), ("doors",), ("leave",), (None, 0), 1, 0, 5),
-        ((LONG,), ("doors",), ("leave",), (None, 0), 2, 0, 3),
-        ((LONG, NEAR), (), ("leave",), (0, 1), 2, 0, 4),
-        ((TURN,), (), ("leave", "mark"), (None, 0), 1, 3, 3),
-        ((TURN,), ("chalk",), ("leave", "mark"), (None, 0), 1, 2, 3),
-        ((TURN,), ("chalk",), ("leave", "mark"), (0,), 2, 1, 3),
-        ((TURN,), ("chalk",), ("mark",), (None, 0), 2, 2, 3),
-        ((TURN,), ("chalk",), ("mark",), (None, 0), 1, 3, 4),
-        ((TURN,), ("chalk",), ("leave",), (None, 0), 1, 2, 3),
-        ((TURN,), ("others",), ("mark", "wipe"), (None, 0), 1, 1, 3),
-        ((CHALK,), ("chalk",), ("leave",), (0, 1), 1, 1, 2),
-        ((CHALK,), ("chalk",), ("leave", "wipe"), (0, 1), 1, 1, 2),
-        ((CHALK,), ("chalk",), ("leave",), (None, 0), 1, 1, 2),
-        ((CHALK,), ("chalk",), ("leave",), (None, 0), 1, 0, 2),
-        ((CHALK, TURN), ("chalk",), ("leave", "wipe"), (None, 0), 1, 2, 2),
-        ((ALONE,), (), ("leave",), (None,), 1, 0, 3),
-        ((ALONE,), (), ("leave",), (None,), 1, 1, 0),
-        ((ALONE, PAIR), (), ("leave", "mark", "wipe"), STEPS, 3, 8, 40),
-        ((ALONE, NEAR), (), ("leave",), (0,), 3, 1, 3),
-        ((THREE,), (), ("leave",), (None, 0), 1, 8, 2),
-        ((THREE,), ("chalk",), ("leave",), (None, 0), 1, 1, 2),
-        ((THREE,), ("chalk",), ("leave",), (None, 0), 1, 1, 1),
-        ((NEAR,), (), ("leave",), (0,), 3, 0, 0),
-    ]
 
 
 def told_books():
