@@ -7,8 +7,9 @@ from helper import ALL_EYES, Dice, big_webs, drawn_machine, is_told, small_webs
 from ringmeet.beats import beat, begun, is_met, sight_of
 from ringmeet.booklooks import shows_none
 from ringmeet.colours import all_unlike, colouring, is_colouring, seen
+from ringmeet.desk import Desk
 from ringmeet.errands import deeds, does, fields_of, fits, is_errand
-from ringmeet.errors import Alike
+from ringmeet.errors import Alike, MeetError, NoText
 from ringmeet.fewest import fewest, least_chalk, shows_fewest, shows_least_chalk
 from ringmeet.gathering import gatherer
 from ringmeet.machines import deed_of, is_machine, sights
@@ -17,10 +18,13 @@ from ringmeet.nevers import never, shows_never
 from ringmeet.pairing import pairer
 from ringmeet.parting import parted, shows_parted
 from ringmeet.quiet import is_quiet, marking
+from ringmeet.reading import read_machine, read_standing, read_web
 from ringmeet.runs import most_chalk, run, walked
 from ringmeet.seeking import sought
+from ringmeet.showing import show_machine, show_standing, show_web
 from ringmeet.slow import slow
 from ringmeet.slowbeats import slow_beat, slow_walked
+from ringmeet.slowlooks import shows_dodge, shows_sure
 from ringmeet.standings import all_signs, chalk_signs, is_standing, standings
 from ringmeet.turns import is_turn, turned, turns
 from ringmeet.verdicts import verdict
@@ -183,12 +187,58 @@ def slow_questions(web):
         lambda: slow_walked(web, machine, standing, choices * 3),
         lambda: slow(web, machine, standing, 40),
         lambda: slow(web, machine, standing, 0),
+        lambda: shows_sure(web, machine, standing, slow(web, machine, standing, 40)[1]),
+        lambda: shows_sure(web, machine, standing, ((whole, 0, 0),)),
+        lambda: shows_dodge(web, machine, standing, (), choices),
+        lambda: shows_dodge(web, machine, standing, *(slow(web, machine, standing, 40) * 2)[1:3]),
+    ]
+
+
+def row_at_fault(read, text):
+    """What is read, or the row told where it is refused."""
+    try:
+        return read(text)
+    except NoText as refusal:
+        return refusal.row
+
+
+def said(rows):
+    """What a new desk answers to some rows, or the words by which it refuses."""
+    desk = Desk()
+    told = []
+    for row in rows:
+        try:
+            told.append(desk.say(row))
+        except MeetError as refusal:
+            told.append(str(refusal))
+    return tuple(told)
+
+
+def text_questions(web):
+    """Each question of texts, and a talk with a desk."""
+    many = len(web)
+    standing = ((0, many - 1) if many > 1 else (0,), (many // 2,))
+    machine = drawn_machine(Dice(many), ("chalk",), 2)
+    rows = ["turns", "web " + show_web(web).replace("\n", "/"), "colours", f"part 0 {many - 1}", "meet",
+            f"stand {many - 1}", f"chalk {many // 2}", "never", "never quiet", "run 9", "meet", "meet quiet", "save",
+            "machine " + show_machine(machine).replace("\n", "/"), "run 9", "slow 9", "ring 9", "turns"]
+    return [
+        lambda: show_web(web),
+        lambda: show_machine(machine),
+        lambda: show_standing(standing),
+        lambda: row_at_fault(read_web, show_web(web)),
+        lambda: row_at_fault(read_web, show_web(web) + "\nroom"),
+        lambda: row_at_fault(read_machine, show_machine(machine)),
+        lambda: row_at_fault(read_machine, show_machine(machine) + " "),
+        lambda: row_at_fault(lambda text: read_standing(web, text), show_standing(standing)),
+        lambda: row_at_fault(lambda text: read_standing(web, text), f"stand {many}\nchalk"),
+        lambda: said(rows),
     ]
 
 
 def all_questions(web):
     questions = web_questions(web) + look_questions(web) + machine_questions(web) + walk_questions(web)
-    return questions + meeting_questions(web) + book_questions(web) + slow_questions(web)
+    return questions + meeting_questions(web) + book_questions(web) + slow_questions(web) + text_questions(web)
 
 
 def webs_to_ask():
@@ -232,6 +282,13 @@ class AskedAgain(unittest.TestCase):
             lambda thing: shows_fewest(errand, ("does", 1, ((), ()), thing)),
             lambda thing: shows_least_chalk(errand, thing),
             lambda thing: shows_least_chalk(errand, ("does", 0, ((), thing), ())),
+            lambda thing: shows_sure(web, ((), ()), ((0, 1), ()), thing),
+            lambda thing: shows_sure(web, ((), ()), ((0, 1), ()), ((thing, 0, 0),)),
+            lambda thing: shows_dodge(web, ((), ()), ((0, 1), ()), thing, ((0, 1),)),
+            lambda thing: shows_dodge(web, ((), ()), ((0, 1), ()), (), thing),
+            lambda thing: row_at_fault(read_web, thing) != 0, lambda thing: row_at_fault(read_machine, thing) != 0,
+            lambda thing: row_at_fault(lambda some: read_standing(web, some), thing) != 0,
+            lambda thing: said([thing]) == ("done",),
         ]
         for things in ([2, 1, 0], [[[0, 1], [0, 0]]], ([2, 0], [1]), (([2, 1],), [0]), {2: [1], 0: [2]}):
             before = copy.deepcopy(things)

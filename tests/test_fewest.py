@@ -351,9 +351,10 @@ class Looks(unittest.TestCase):
         for core in ((), 0, None, "does", [], {}, Likes(), Touchy()):
             for wrap in (in_tuple, in_list, in_pair):
                 deep = nested(37 if wrap is not in_pair else 18, wrap, core)
-                for thing in (deep, (word, deep, machine, books), (word, many, deep, books), (word, many, machine, deep),
-                              (word, many, machine, (books[0], deep)), (word, many, machine, (deep, books[1])),
-                              (deep, many, machine, books), (word, many, (deep, deep), books)):
+                for thing in (deep, (word, deep, machine, books), (word, many, deep, books),
+                              (word, many, machine, deep), (word, many, machine, (books[0], deep)),
+                              (word, many, machine, (deep, books[1])), (deep, many, machine, books),
+                              (word, many, (deep, deep), books)):
                     self.assertIs(shows_fewest(THREE_MOODS, thing), False)
                     self.assertIs(shows_least_chalk(THREE_MOODS, thing), False)
 

@@ -157,6 +157,18 @@ class Code(unittest.TestCase):
         for name, node in nodes(ast.Attribute):
             self.assertIn(node.attr, METHODS | given | own, name)
 
+    def test_no_name_is_a_method_and_a_value(self):
+        given = {node.attr for name, node in nodes(ast.Attribute) if isinstance(node.ctx, ast.Store)}
+        parts = [part for name, node in nodes(ast.ClassDef) for part in node.body]
+        own = {part.name for part in parts if isinstance(part, ast.FunctionDef)}
+        self.assertEqual(given & own, set())
+        self.assertEqual(given & METHODS, set())
+
+    def test_texts(self):
+        for name, node in nodes(ast.Constant):
+            if isinstance(node.value, str):
+                self.assertRegex(node.value, r"\A[ -$&-~\n]*\Z", name)
+
     def test_is_stands_beside_none_true_and_false(self):
         for name, node in nodes(ast.Compare):
             for operator, right in zip(node.ops, node.comparators):
